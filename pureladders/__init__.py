@@ -1,0 +1,1 @@
+"""Lots of products of letters, their ladders of relations, and pure tables."""

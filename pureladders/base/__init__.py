@@ -1,0 +1,1 @@
+"""Integers, and rows of integers over a field."""

@@ -1,0 +1,1 @@
+"""Products of letters, and lots of products."""
