@@ -1,7 +1,7 @@
 """The errors of the package.
 
-Those that keep a value do not call the __init__ of their base class: so their
-arguments, and with them their text, stay what they were made with.
+Those that keep a value pass nothing on to their base class: so their text is
+that of the value that they were made with.
 """
 
 

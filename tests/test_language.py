@@ -21,7 +21,8 @@ METHODS = set(
     "append clear copy count endswith extend find get index insert isalnum isalpha isdigit islower isspace "
     "isupper items join keys ljust lower lstrip partition pop remove replace reverse rfind rjust rpartition "
     "rsplit rstrip setdefault split splitlines startswith strip update upper values zfill bit_length "
-    "add discard".split())
+    "add discard title capitalize swapcase casefold center expandtabs removeprefix removesuffix rindex isascii "
+    "isdecimal isnumeric istitle isidentifier isprintable".split())
 DUNDERS = set(
     "__init__ __eq__ __repr__ __str__ __len__ __iter__ __call__ __lt__ __le__ __gt__ __ge__ __ne__ __add__ "
     "__sub__ __mul__ __neg__ __bool__ __contains__ __getitem__ __setitem__".split())
@@ -173,7 +174,7 @@ class LanguageTest(unittest.TestCase):
             if isinstance(node.value, str):
                 self.assertNotIn("%", node.value, source.spot(node))
                 self.assertFalse(node.value.endswith(("._", ".__")), source.spot(node))
-                self.assertNotIn("__", node.value.replace("__init__", ""), source.spot(node))
+                self.assertNotIn("__", node.value, source.spot(node))
 
     def test_powers_have_literal_exponents(self):
         for source, node in every(ast.BinOp):
@@ -299,9 +300,48 @@ class LanguageTest(unittest.TestCase):
 
     def test_names_are_defined_where_the_document_lists_them(self):
         for name, listed in INTERFACE.items():
-            if name in BY_MODULE:
-                source = BY_MODULE[name]
-                self.assertLessEqual(set(listed.split()), set(self.bound_here(source)), name)
+            self.assertLessEqual(set(listed.split()), set(self.bound_here(BY_MODULE[name])), name)
+
+    def test_methods_are_defined_in_their_classes(self):
+        for _, node in every(ast.ClassDef):
+            if node.name in METHODS_OF_CLASSES:
+                found = {inner.name for inner in node.body if isinstance(inner, ast.FunctionDef)}
+                self.assertLessEqual(set(METHODS_OF_CLASSES[node.name].split()), found, node.name)
+
+    def test_operators_change_only_what_they_made(self):
+        """Behind an operator, a property or a text nothing but new lists and dicts is changed."""
+        functions = {node.name: (source, node) for source in SOURCES for node in source.functions()}
+        waiting = [node.name for _, node in every(ast.FunctionDef)
+                   if node.name in DUNDERS - {"__init__", "__iter__"} or node.decorator_list]
+        seen = set()
+        while waiting:
+            name = waiting.pop()
+            if name in seen or name in ("read", "__init__"):
+                continue
+            seen.add(name)
+            source, node = functions[name]
+            self.assertEqual(self.changed_from_outside(node), [], source.spot(node))
+            for inner in ast.walk(node):
+                if isinstance(inner, ast.Call) and getattr(inner.func, "id", "") in functions:
+                    waiting.append(inner.func.id)
+
+    def changed_from_outside(self, node):
+        """The names of what a function changes without having made it by a literal or a call of its class."""
+        made = set()
+        for inner in ast.walk(node):
+            if isinstance(inner, ast.Assign) and isinstance(inner.targets[0], ast.Name):
+                value = inner.value
+                plain = isinstance(value, (ast.List, ast.Dict, ast.ListComp, ast.DictComp))
+                called = isinstance(value, ast.Call) and getattr(value.func, "id", "") in ("list", "Lot", "Table")
+                if plain or called:
+                    made.add(inner.targets[0].id)
+        changed = []
+        for inner in ast.walk(node):
+            if isinstance(inner, (ast.Attribute, ast.Subscript)) and isinstance(inner.ctx, (ast.Store, ast.Del)):
+                changed.append(ast.unparse(inner.value))
+            if isinstance(inner, ast.Call) and getattr(inner.func, "attr", "") in CHANGING:
+                changed.append(ast.unparse(inner.func.value))
+        return [name for name in changed if name not in made]
 
 
 INTERFACE = {
@@ -312,7 +352,19 @@ INTERFACE = {
     "pureladders.lot.products": "MAX_LETTERS MAX_EXPONENT MAX_LISTED_DEGREE degree_of is_product does_divide "
                                 "multiple_of divisor_of product_times quotient_of all_products",
     "pureladders.lot.lots": "MAX_MEMBER_EXPONENT MAX_MEMBERS MAX_PASSED MAX_POWER MAX_MULTIPLES Lot multiples",
+    "pureladders.base.ranks": "MAX_SIDE MAX_FIELD rank_of divisors_of solved is_solved",
+    "pureladders.row.counts": "MOST_COUNTED MOST_FAR MOST_LISTED_LETTERS MOST_LISTED_DEGREE numerator left_counts "
+                              "count_at left_products dimension weight steady_row steady_degree free_set is_free_set",
+    "pureladders.table.tables": "MAX_STEP MAX_PLACE Table",
+    "pureladders.stable.lots": "is_stable is_strongly_stable unstable is_unstable split closing makers "
+                               "table_by_letters",
 }
+METHODS_OF_CLASSES = {
+    "Lot": "__init__ read letters members degrees is_all is_squarefree __add__ __mul__ meet quotient power "
+           "__contains__ __eq__ __bool__ __len__ __iter__ __str__",
+    "Table": "__init__ read entries bottom end at __add__ __sub__ __neg__ times __eq__ __bool__ __str__",
+}
+CHANGING = set("append clear extend insert pop remove reverse setdefault update add discard".split())
 
 
 if __name__ == "__main__":

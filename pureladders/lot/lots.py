@@ -105,8 +105,8 @@ class Lot:
             return False
         return is_divided(value, self._members)
 
-    def __eq__(self, value):
-        return isinstance(value, Lot) and self._letters == value._letters and self._members == value._members
+    def __eq__(self, other):
+        return isinstance(other, Lot) and self._letters == other._letters and self._members == other._members
 
     def __bool__(self):
         return bool(self._members)

@@ -4,10 +4,10 @@ Reading is lenient about numbers and sequence (x1^02 is read as x1^2): whoever
 reads a text writes again what was read, and compares.
 """
 
+from pureladders.base.digits import told_number
 from pureladders.lot.exponents import nothing
 from pureladders.lot.products import MAX_EXPONENT
 
-DIGITS = "0123456789"
 LONGEST_EXPONENT = 2
 
 
@@ -67,14 +67,7 @@ def told_index(name, letters):
 
 def told_exponent(digits):
     """The exponent that the digits tell; None for other texts, and out of its bounds."""
-    if not 1 <= len(digits) <= LONGEST_EXPONENT or not are_digits(digits):
-        return None
-    exponent = int(digits)
-    if exponent > MAX_EXPONENT:
+    exponent = told_number(digits, LONGEST_EXPONENT)
+    if exponent is None or exponent > MAX_EXPONENT:
         return None
     return exponent
-
-
-def are_digits(text):
-    """Whether the text has no other characters than 0 to 9."""
-    return all([letter in DIGITS for letter in text])

@@ -1,0 +1,1 @@
+"""How many products of each degree a lot leaves."""

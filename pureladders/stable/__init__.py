@@ -1,0 +1,1 @@
+"""Lots that moves do not leave."""

@@ -1,0 +1,1 @@
+"""Tables of fractions at places (step, degree)."""
