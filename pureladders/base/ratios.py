@@ -4,10 +4,8 @@ from math import gcd
 
 
 def lowest_pair(top, bottom):
-    """The pair of the fraction top / bottom; the bottom may be below 0, but not 0."""
+    """The pair of the fraction top / bottom, whose bottom is above 0."""
     divisor = gcd(top, bottom)
-    if bottom < 0:
-        divisor = -divisor
     return top // divisor, bottom // divisor
 
 

@@ -1,6 +1,6 @@
 """How many products a lot leaves: degree by degree, far out, and by free letters."""
 
-from pureladders.base.checks import check_within, is_within
+from pureladders.base.checks import check_within, is_number
 from pureladders.base.integers import choices
 from pureladders.errors import Refused, TooMany
 from pureladders.lot.lots import check_lot
@@ -119,7 +119,8 @@ def is_free_set(lot, value):
     sets = greatest_free_sets(lot)
     if not isinstance(value, tuple):
         return False
-    return all([is_within(index, 0, lot.letters - 1) for index in value]) and value in sets
+    # What is equal to a free set could have True in the place of 1.
+    return all([is_number(index) for index in value]) and value in sets
 
 
 def greatest_free_sets(lot):

@@ -1,6 +1,6 @@
 """Stable and strongly stable lots: closings, makers, and tables by last letters."""
 
-from pureladders.base.checks import check_within, is_within
+from pureladders.base.checks import check_within, is_number
 from pureladders.base.integers import choices
 from pureladders.errors import InvalidOperation, InvalidProduct, Refused, TooMany
 from pureladders.lot.exponents import are_exponents, fits, taken_off
@@ -35,10 +35,8 @@ def is_unstable(lot, value):
     if not isinstance(value, tuple) or len(value) != 3:
         return False
     product, lower, letter = value
-    # What is equal to a least member could have True in the place of 1.
-    if not are_exponents(product, lot.letters, MAX_EXPONENT):
-        return False
-    if not is_within(lower, 0, lot.letters - 1) or not is_within(letter, 0, lot.letters - 1):
+    # What is equal to a move could have True in the place of 1.
+    if not are_exponents(product, lot.letters, MAX_EXPONENT) or not is_number(lower) or not is_number(letter):
         return False
     return value in leaving_moves(lot.members, False)
 
