@@ -27,6 +27,11 @@ NO_INTEGERS = (
 NO_PRODUCTS = (
     None, True, 0, 1, LONGER, "", "12", (), (1,) * 9, [], [1, 0], {}, {0: 1}, (1, True), (False, 0), (1, -1), (0, 61),
     (1, LONGER), (1, None), (1, "1"), ((1,), 0), ((1, 0),), ([1], 0), NESTED, EDGES, (EDGES, 0), ({}, 1))
+# None of these is an object of the package.
+NO_OBJECTS = (None, True, False, 0, 1, LONGER, "", "(x1)", (), (1, 0), [], [1], {}, {(0, 0): 1}, NESTED)
+NO_LOTS = NO_OBJECTS
+NO_FIELDS = NO_INTEGERS + (-1, 1, 4, 49, 91, 98, 101, -2)
+FIELDS = (0, 2, 3, 97)
 
 
 class CheckedTest(unittest.TestCase):
@@ -49,3 +54,39 @@ class CheckedTest(unittest.TestCase):
         """Check that the call, with a number and these others, takes no other numbers than the bounds tell."""
         for value in NO_INTEGERS + (least - 1, most + 1):
             self.raises(InvalidNumber(value), call, value, *others)
+
+    def refuses(self, call, good, wrongs, thens=()):
+        """Check which errors a call raises whose arguments are wrong, one of them or several at once.
+
+        `good` are right arguments. Each of `wrongs` is a list of pairs of a wrong value and its error, one list
+        for each argument that is checked, in the order of the checks: (position, pairs). Each of `thens` is a
+        pair of arguments and of the error that they raise if no other error applies.
+        """
+        call(*good)
+        for at, (place, pairs) in enumerate(wrongs):
+            for value, error in pairs:
+                args = replaced(good, place, value)
+                self.raises(error, call, *args)
+                for later, others in wrongs[at + 1:]:
+                    self.raises(error, call, *replaced(args, later, others[0][0]))
+                    self.raises(error, call, *replaced(args, later, others[-1][0]))
+        for args, error in thens:
+            self.raises(error, call, *args)
+            for place, pairs in wrongs:
+                for value, other in pairs:
+                    self.raises(other, call, *replaced(args, place, value))
+
+
+def replaced(args, place, value):
+    """The arguments with another one at the place."""
+    return args[:place] + (value,) + args[place + 1:]
+
+
+def each(error, values):
+    """The pairs of the values with one error, a class."""
+    return [(value, error) for value in values]
+
+
+def each_number(values):
+    """The pairs of the values with the error that keeps a number."""
+    return [(value, InvalidNumber(value)) for value in values]

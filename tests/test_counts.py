@@ -10,10 +10,9 @@ from pureladders.lot.lots import Lot
 from pureladders.row import counts
 from pureladders.row.counts import (
     count_at, dimension, free_set, is_free_set, left_counts, left_products, numerator, steady_degree, steady_row, weight)
-from tests.checked import EDGES, LONGER, NESTED, NO_INTEGERS, RING, SQUARES, CheckedTest
+from tests.checked import EDGES, LONGER, NESTED, NO_INTEGERS, NO_LOTS, RING, SQUARES, CheckedTest
 
 EMPTY, ALL = Lot(3, ()), Lot(3, ((0, 0, 0),))
-NO_LOTS = (None, True, 0, LONGER, "(x1)", (), (1, 0), [], {}, {(0, 0): 1}, NESTED)
 OF_LOTS = (numerator, dimension, weight, steady_row, steady_degree, free_set)
 
 

@@ -11,11 +11,10 @@ from pureladders.lot.lots import Lot
 from pureladders.stable.lots import (
     closing, is_stable, is_strongly_stable, makers, split, table_by_letters, unstable, is_unstable)
 from pureladders.table.tables import Table
-from tests.checked import EDGES, LONGER, NESTED, NO_PRODUCTS, RING, SQUARES, CheckedTest
+from tests.checked import EDGES, LONGER, NESTED, NO_LOTS, NO_PRODUCTS, RING, SQUARES, CheckedTest
 
 STABLE = Lot(3, ((2, 0, 0), (1, 1, 0), (0, 2, 0), (0, 1, 1)))
 EMPTY, ALL = Lot(3, ()), Lot(3, ((0, 0, 0),))
-NO_LOTS = (None, True, 0, LONGER, "(x1)", (), (1, 0), [], {}, {(0, 0): 1}, NESTED)
 
 
 def walked(letters, degree):

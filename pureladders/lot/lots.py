@@ -3,7 +3,7 @@
 from pureladders.base.checks import check_within
 from pureladders.errors import InvalidLot, InvalidOperation, ParseError, TooMany
 from pureladders.lot.exponents import added, are_exponents, greater, nothing, taken_off
-from pureladders.lot.members import is_divided, is_least, least_of
+from pureladders.lot.members import common_multiples, is_divided, is_least_of, least_of
 from pureladders.lot.products import MAX_EXPONENT, MAX_LETTERS, check_product
 from pureladders.lot.words import lot_text, told_members
 
@@ -160,7 +160,7 @@ def limited_members(products):
 def has_great_exponent(products):
     """Whether a product that no other one divides has an exponent above 60."""
     for product in products:
-        if max(product) > MAX_EXPONENT and is_least(product, products):
+        if max(product) > MAX_EXPONENT and is_least_of(product, products):
             return True
     return False
 
@@ -168,9 +168,7 @@ def has_great_exponent(products):
 def multiples(lot):
     """The ascending tuple of the common multiples of all sets of least members."""
     check_lot(lot)
-    found = [nothing(lot.letters)]
-    for member in lot.members:
-        found = sorted(set(found) | {greater(one, member) for one in found})
-        if len(found) > MAX_MULTIPLES:
-            raise TooMany(MAX_MULTIPLES)
+    found = common_multiples(lot.members, lot.letters, MAX_MULTIPLES)
+    if found is None:
+        raise TooMany(MAX_MULTIPLES)
     return tuple(found)

@@ -1,6 +1,6 @@
-"""Which of some products divide others, and which ones are least."""
+"""Which of some products divide others, which ones are least, and their common multiples."""
 
-from pureladders.lot.exponents import fits
+from pureladders.lot.exponents import fits, greater, nothing
 
 
 def is_divided(product, products):
@@ -11,7 +11,7 @@ def is_divided(product, products):
     return False
 
 
-def is_least(product, products):
+def is_least_of(product, products):
     """Whether none of the products divides the product, but for itself."""
     for one in products:
         if one != product and fits(one, product):
@@ -34,3 +34,15 @@ def least_of(products, most=None):
         if not is_divided(product, kept):
             kept.append(product)
     return kept
+
+
+def common_multiples(products, letters, most):
+    """The ascending list of the common multiples of all sets of products; None if there are more than `most`."""
+    found = [nothing(letters)]
+    for product in products:
+        # A product that is one of those found adds nothing: with two of them they have their common multiple.
+        if product not in found:
+            found = sorted(set(found) | {greater(one, product) for one in found})
+        if len(found) > most:
+            return None
+    return found

@@ -1,13 +1,12 @@
 """Stable and strongly stable lots: closings, makers, and tables by last letters."""
 
 from pureladders.base.checks import check_within, is_number
-from pureladders.base.integers import choices
 from pureladders.errors import InvalidOperation, InvalidProduct, Refused, TooMany
 from pureladders.lot.exponents import are_exponents, fits, taken_off
 from pureladders.lot.lots import MAX_MEMBERS, MAX_MEMBER_EXPONENT, check_lot, made_lot
 from pureladders.lot.products import MAX_EXPONENT, MAX_LETTERS, check_product
 from pureladders.stable.moves import closed_members, last_letter, leaving_moves, moved, moves_of
-from pureladders.table.tables import Table
+from pureladders.table.tables import Table, choice_places, table_of_counts
 
 
 def is_stable(lot):
@@ -108,10 +107,5 @@ def table_by_letters(lot):
     check_stable(lot, False)
     if lot.is_all:
         return Table({})
-    entries = {(0, 0): 1}
-    for member in lot.members:
-        last, degree = last_letter(member), sum(member)
-        for step in range(1, last + 2):
-            place = (step, degree + step - 1)
-            entries[place] = entries.get(place, 0) + choices(last, step - 1)
-    return Table(entries)
+    counts = [(sum(member), last_letter(member)) for member in lot.members]
+    return table_of_counts([((0, 0), 1)] + choice_places(counts))

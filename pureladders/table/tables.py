@@ -3,7 +3,7 @@
 from math import lcm
 
 from pureladders.base.checks import check_passed, check_within, is_passed, is_within
-from pureladders.base.integers import greatest_divisor
+from pureladders.base.integers import choices, greatest_divisor
 from pureladders.base.ratios import lowest_pair
 from pureladders.errors import InvalidNumber, InvalidTable, ParseError
 from pureladders.table.words import table_text, told_fractions
@@ -110,6 +110,23 @@ def made_table(entries, bottom):
     table._entries = found[0]
     table._bottom = found[1]
     return table
+
+
+def table_of_counts(counts):
+    """The table of a list of pairs of a place and a number; numbers of one place are added up."""
+    entries = {}
+    for place, number in counts:
+        entries[place] = entries.get(place, 0) + number
+    return Table(entries)
+
+
+def choice_places(counts):
+    """The list of the pairs of a place and a number that the degrees of members, each with a count, tell.
+
+    A member has at the step i as many rungs as there are choices of i - 1 things
+    out of so many, and i - 1 degrees behind its own.
+    """
+    return [((step + 1, degree + step), choices(many, step)) for degree, many in counts for step in range(many + 1)]
 
 
 def lowest(entries, bottom):

@@ -1,0 +1,1 @@
+"""Families of sets of corners, their holes, links and duals."""

@@ -1,0 +1,1 @@
+"""Parts of lots at products, and the tables that they tell."""

@@ -1,0 +1,1 @@
+"""Ladders: rungs at steps, and maps between them."""

@@ -1,0 +1,1 @@
+"""Straight lots, orders of members by letters, and lots of pairs."""
