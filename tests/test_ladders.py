@@ -201,6 +201,8 @@ class ObjectsTest(CheckedTest):
             (((1,), (LONG,)),), (((1,), (-LONG,)),), (((LONGER,), (1,)),), (((1,), 1),), ((),), (EDGES,), NESTED)
         self.refuses(Ladder, (2, (TOP, step), (((1,), (1,)),)), [
             (0, each_number(NO_INTEGERS + (0, 9))), (1, each(InvalidLadder, rungs)), (2, each(InvalidLadder, maps))])
+        for value in NO_RUNGS:
+            self.raises(InvalidLadder, Ladder, 2, value, zero_maps(value))
         self.raises(InvalidLadder, Ladder, 2, (TOP,), ((),))
         self.raises(InvalidLadder, Ladder, 2, (TOP, (), step), ((),))
         self.raises(InvalidLadder, Ladder, 2, (TOP, (), step), (((1,),), ((), ())))
@@ -303,6 +305,14 @@ class FaultsTest(CheckedTest):
         self.assertIsNone(ladder_fault(SQUARES, Ladder(2, TAYLOR.rungs, maps), 97))
         self.assertEqual(ladder_fault(SQUARES, Ladder(2, TAYLOR.rungs, maps), 2), ("hole", (2, 3), 2))
 
+    def test_products_at_late_rungs(self):
+        """More rungs two steps below than at the step below."""
+        rungs = (((0,),), ((1,),) * 3, ((1,),), ((1,),) * 2)
+        maps = (((0,),) * 3, ((0, 0, 1),), ((0,), (5,)))
+        ladder = Ladder(1, rungs, maps)
+        self.assertEqual(ladder_fault(Lot(1, ()), ladder), ("product", 3, 1, 2))
+        self.assertEqual(ladder_fault(Lot(1, ()), ladder, 5), faults_of(Lot(1, ()), ladder, 5))
+
     def test_steps_without_rungs(self):
         self.assertEqual([ladder_fault(EMPTY, GAP), ladder_fault(SQUARES, GAP)], [("hole", (1, 0), 2), ("lot",)])
         self.assertEqual(ladder_fault(EMPTY, GAP, 2), faults_of(EMPTY, GAP, 2))
@@ -326,6 +336,13 @@ class FaultsTest(CheckedTest):
         ladder = Ladder(1, rungs, maps)
         self.assertIs(is_ladder(LINE, ladder), True)
         self.assertEqual(cut_down(ladder).table, table_of(LINE))
+        great = 2 ** 61 - 1
+        for entry in (great, great ** 3, 7 * great):
+            ladder = Ladder(1, (((0,),), ((1,),)), (((entry,),),))
+            self.assertIs(is_ladder(LINE, ladder), True)
+            self.assertIs(is_ladder(LINE, ladder, 7), entry % 7 != 0)
+        low = Ladder(1, rungs, (((0,),) * 3, ((great, 1, 0), (0, great, great - 1))))
+        self.assertEqual(ladder_fault(Lot(1, ()), low), faults_of(Lot(1, ()), low, 0))
 
     def test_told_lots(self):
         rungs = (TOP, ((2, 0), (1, 1), (1, 0), (0, 3), (2, 0)))
@@ -474,6 +491,19 @@ class CutsTest(CheckedTest):
         big = Ladder(1, (((0,),), ((1,), (1,)), ((1,), (1,))), (((0,), (0,)), ((1, SIXTY), (1, -SIXTY))))
         self.refuses(cut_down, (SMALL, 0), [wrong, (1, primes)], [((big, 0), TooMany(60))])
         self.refuses(cut, (TAYLOR, (3, 0, 1), 0), [wrong, (2, primes), (1, each(InvalidOperation, NO_UNITS))])
+
+
+# None of these are rungs of a ladder, but maps of them can be told.
+NO_RUNGS = (
+    ((),), (((1, 0),),), (((0, 1),),), (TOP + TOP,), (((0, 0, 0),),), (((0,),),), (TOP, ()), (TOP, ((1, 0),), ()),
+    (TOP, (), ()), (TOP,) + (((1, 0),),) * 9, (TOP, ((1, 0),) * 71), (TOP, ((1, 61),)), (TOP, ((1, -1),)),
+    (TOP, ((1, True),)), (((0, False),),), (TOP, ((1,),)), (TOP, ((1, 0, 0),)), (TOP, ([1, 0],)), (TOP, [(1, 0)]),
+    [TOP, ((1, 0),)], ([(0, 0)], ((1, 0),)), ((), ((1, 0),)), (((1, 0),), ((1, 0),)), (TOP, ((1, LONGER),)))
+
+
+def zero_maps(rungs):
+    """Maps between these rungs with integers 0 alone."""
+    return tuple(((0,) * len(low),) * len(high) for low, high in zip(rungs, rungs[1:]))
 
 
 # None of these is a unit of Taylor's ladder of SQUARES, or of another ladder of two steps with a unit (2, 0, 0).

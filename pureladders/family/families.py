@@ -146,7 +146,7 @@ def table_by_sets(lot, prime=0):
         holes = holes_of(sets_inside(sets, chosen), prime)
         size = len(chosen)
         # The holes begin with the dimension -1, which belongs to the step of the size.
-        counts = counts + [((size - at, size), number) for at, number in enumerate(holes) if number != 0]
+        counts = counts + [((size - at, size), number) for at, number in enumerate(holes)]
     return table_of_counts(counts)
 
 

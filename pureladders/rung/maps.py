@@ -4,6 +4,8 @@ from pureladders.base.ranks import is_zero
 from pureladders.base.sparse import ranks_along, sparse_row
 from pureladders.lot.exponents import fits
 
+GREAT_PRIME = 2 ** 61 - 1
+
 
 def units_of(rungs, maps, prime):
     """The ascending list of the units (step, upper, lower)."""
@@ -57,9 +59,9 @@ def crossed_row(row, pivot, place):
 
 
 def end_of(rungs):
-    """How many steps there are but for last ones without rungs."""
+    """How many steps there are but for last ones without rungs; step 0 has one."""
     end = len(rungs)
-    while end > 1 and not rungs[end - 1]:
+    while not rungs[end - 1]:
         end -= 1
     return end
 
@@ -107,15 +109,35 @@ def product_fault(rungs, maps, prime):
 def hole_fault(rungs, maps, products, prime):
     """The least of the products, then the least step, at which a strand has a hole, as a fault; None if none has.
 
-    An integer other than 0 tells that the lower rung divides the upper one. So a
-    strand has all entries of the rows of its rungs. Products of maps must be 0.
+    Products of maps must be 0. So two ranks are never more than the rungs. Over
+    the fractions they are at least those modulo a prime: if these are enough,
+    the longer integers need not be looked at.
     """
-    tables = [[sparse_row(row, prime) for row in rows] for rows in maps]
+    modulus = prime or GREAT_PRIME
+    fast, exact = sparse_maps(maps, modulus), sparse_maps(maps, prime)
     for product in products:
         places = strand_places(rungs, product)[1:]
-        kept = [{at: rows[at] for at in chosen} for rows, chosen in zip(tables, places)]
-        ranks = ranks_along(kept, prime) + [0]
-        for at, chosen in enumerate(places):
-            if ranks[at] + ranks[at + 1] != len(chosen):
-                return ("hole", product, at + 1)
+        if step_with_hole(fast, places, modulus) is not None:
+            step = step_with_hole(exact, places, prime)
+            if step is not None:
+                return ("hole", product, step)
+    return None
+
+
+def sparse_maps(maps, prime):
+    """The maps with rows as dicts of the entries that are not 0 in the field."""
+    return [[sparse_row(row, prime) for row in rows] for rows in maps]
+
+
+def step_with_hole(maps, places, prime):
+    """The least step at which the ranks of both maps are not as many as the rungs at the places.
+
+    An integer other than 0 tells that the lower rung divides the upper one. So a
+    strand has all entries of the rows of its rungs.
+    """
+    kept = [{at: rows[at] for at in chosen} for rows, chosen in zip(maps, places)]
+    ranks = ranks_along(kept, prime) + [0]
+    for at, chosen in enumerate(places):
+        if ranks[at] + ranks[at + 1] != len(chosen):
+            return at + 1
     return None

@@ -37,7 +37,7 @@ def web_paper(lot):
 def is_web_paper(lot, value):
     """Whether the value is a paper of the web."""
     check_pairs(lot)
-    if not isinstance(value, tuple) or len(value) != 2 or not isinstance(value[0], str):
+    if not isinstance(value, tuple) or len(value) != 2:
         return False
     word, letters = value
     if not are_letters(letters, lot.letters):
