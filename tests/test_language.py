@@ -372,6 +372,10 @@ INTERFACE = {
     "pureladders.straight.orders": "MAX_ORDERED is_straight straight_bar letter_order is_letter_order "
                                    "quotient_letters table_by_order",
     "pureladders.straight.pairs": "pair_web web_paper is_web_paper",
+    "pureladders.pure.degrees": "MAX_STEP MAX_PLACE pure_table whole_pure is_below pure_degrees",
+    "pureladders.pure.chains": "MAX_CHAIN taking_off table_of_chain is_chain",
+    "pureladders.pure.weights": "weights_against is_weights weighed pure_sums",
+    "pureladders.pure.tells": "table_numerator codimension weight_of regularity ends weight_bounds depth_of",
 }
 METHODS_OF_CLASSES = {
     "Lot": "__init__ read letters members degrees is_all is_squarefree __add__ __mul__ meet quotient power "

@@ -112,6 +112,34 @@ def made_table(entries, bottom):
     return table
 
 
+def check_table(value):
+    """Refuse all but the tables."""
+    if not isinstance(value, Table):
+        raise InvalidTable("no table")
+
+
+def fractions_of(table):
+    """The dict from the places of a table to its fractions other than 0, ascending."""
+    entries, bottom = table.entries, table.bottom
+    return {place: lowest_pair(entries[place], bottom) for place in entries}
+
+
+def table_of_fractions(fractions):
+    """The table of a dict from places to fractions, with integers of any length.
+
+    Fractions in lowest terms that are brought to their least common bottom are
+    in lowest terms together: so long integers need no common divisor here.
+    """
+    bottom = 1
+    for place in fractions:
+        bottom = lcm(bottom, fractions[place][1])
+    kept = [place for place in sorted(fractions) if fractions[place][0] != 0]
+    table = Table({})
+    table._entries = {place: told_entry(fractions[place], bottom) for place in kept}
+    table._bottom = bottom
+    return table
+
+
 def table_of_counts(counts):
     """The table of a list of pairs of a place and a number; numbers of one place are added up."""
     entries = {}

@@ -1,0 +1,1 @@
+"""Pure tables, chains of them, weights against tables, and what tables tell."""
