@@ -209,7 +209,8 @@ class LanguageTest(unittest.TestCase):
                 names = [getattr(node, key, "") for key in ("id", "attr", "arg", "name", "module")]
                 for name in names:
                     self.assertNotIn(name, WORDS, source.path)
-            for word in ("dataclass", "overload", "contextmanager", "_wall", "_WallAttr"):
+            # The last three are barred since a class has items.
+            for word in ("dataclass", "overload", "contextmanager", "_wall", "_WallAttr", "(type)", "Meta", "metaclass="):
                 self.assertNotIn(word, source.text, source.path)
 
     def test_methods_of_values(self):
@@ -375,12 +376,22 @@ INTERFACE = {
     "pureladders.pure.degrees": "MAX_STEP MAX_PLACE pure_table whole_pure is_below pure_degrees",
     "pureladders.pure.chains": "MAX_CHAIN taking_off table_of_chain is_chain",
     "pureladders.pure.weights": "weights_against is_weights weighed pure_sums",
+    "pureladders.pure.sums": "MAX_JOINED lower_of upper_of are_one_chain joined_chain chain_of_sum scaled_chain "
+                             "neighbours is_neighbours taken",
+    "pureladders.join.joined": "MAX_JOINED side_by_side meet_apart table_product table_apart cut_at cone "
+                               "cone_neighbours",
+    "pureladders.field.fields": "boundary_divisors part_divisors dividing_primes is_same_everywhere "
+                                "field_neighbours half_sphere",
+    "pureladders.text.texts": "write read",
+    "pureladders.desk.desk": "MAX_NAME MAX_SAID Desk",
     "pureladders.pure.tells": "table_numerator codimension weight_of regularity ends weight_bounds depth_of",
 }
 METHODS_OF_CLASSES = {
     "Lot": "__init__ read letters members degrees is_all is_squarefree __add__ __mul__ meet quotient power "
            "__contains__ __eq__ __bool__ __len__ __iter__ __str__",
     "Table": "__init__ read entries bottom end at __add__ __sub__ __neg__ times __eq__ __bool__ __str__",
+    "Desk": "__init__ letters lots sayings past do say unsay is_true undo twin __contains__ __getitem__ __len__ "
+            "__iter__ __eq__ __str__",
     "Ladder": "__init__ letters rungs maps table strand __eq__ __len__ __str__",
     "Family": "__init__ corners members dimension euler restricted link holes __contains__ __eq__ __bool__ __len__ "
               "__iter__ __str__",

@@ -28,6 +28,20 @@ def has_two_divisors(number):
     return True
 
 
+def prime_divisors(number):
+    """The ascending list of the primes that divide an integer above 0."""
+    found = []
+    divisor = 2
+    while number > 1:
+        if number % divisor == 0:
+            number //= divisor
+            if divisor not in found:
+                found.append(divisor)
+        else:
+            divisor += 1
+    return found
+
+
 def binomial(top, bottom):
     """How many choices of `bottom` things out of `top` there are."""
     check_within(top, 0, MAX_TOP)

@@ -10,9 +10,14 @@ MAX_SIDE = 70
 MAX_FIELD = 97
 
 
+def is_field(value):
+    """Whether the value is 0, for the fractions, or a prime to 97."""
+    return is_within(value, 0, MAX_FIELD) and (value == 0 or is_prime(value))
+
+
 def check_field(prime):
     """Refuse all but 0, for the fractions, and the primes to 97."""
-    if not is_within(prime, 0, MAX_FIELD) or not (prime == 0 or is_prime(prime)):
+    if not is_field(prime):
         raise InvalidNumber(prime)
 
 

@@ -1,4 +1,4 @@
-"""Ranks of maps whose rows have few entries other than 0: dicts from places to these entries.
+"""Ranks and divisors of maps whose rows have few entries other than 0: dicts from places to these entries.
 
 Over the fractions the rows are divided by their common divisors, so that no
 entry gets longer than a determinant of the rows.
@@ -6,6 +6,7 @@ entry gets longer than a determinant of the rows.
 
 from math import gcd
 
+from pureladders.base.divisors import elementary_divisors
 from pureladders.base.integers import greatest_divisor
 
 
@@ -59,3 +60,53 @@ def less_pivot(row, pivot, place, prime):
         return {at: both[at] for at in both if both[at] != 0}
     divisor = greatest_divisor(list(both.values()))
     return {at: both[at] // divisor for at in both if both[at] != 0}
+
+
+def divisors_above_one(rows):
+    """The ascending tuple of the elementary divisors above 1, with repeats, over the fractions.
+
+    A row with an entry of 1 or -1 that no other row has an entry beside has the
+    divisor 1: what is left of the others has all the divisors above 1.
+    """
+    pivots = {}
+    waiting = list(rows)
+    before = len(waiting) + 1
+    while len(waiting) < before:
+        before = len(waiting)
+        waiting = rows_without_units(waiting, pivots)
+    places = sorted({place for row in waiting for place in row})
+    divisors = elementary_divisors([[row.get(place, 0) for place in places] for row in waiting])
+    return tuple([divisor for divisor in divisors if divisor > 1])
+
+
+def rows_without_units(rows, pivots):
+    """Those rows that have entries, but none of 1 or -1, behind eliminations; the others become pivots.
+
+    A pivot has no entries at the places of those ahead of it. So it is enough to
+    take them off a row in their sequence, once.
+    """
+    kept = []
+    for row in rows:
+        rest = cleared(row, pivots)
+        units = [place for place in rest if abs(rest[place]) == 1]
+        if units:
+            pivots[units[0]] = rest
+        elif rest:
+            kept.append(rest)
+    return kept
+
+
+def cleared(row, pivots):
+    """The row, less multiples of the pivots that make its entries at their places 0."""
+    for place in pivots:
+        if place in row:
+            row = less_multiple(row, pivots[place], row[place] * pivots[place][place])
+    return row
+
+
+def less_multiple(row, pivot, times):
+    """The row less so many times the pivot."""
+    both = {at: row[at] for at in row}
+    for at in pivot:
+        both[at] = both.get(at, 0) - times * pivot[at]
+    return {at: both[at] for at in both if both[at] != 0}

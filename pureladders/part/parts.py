@@ -46,10 +46,22 @@ def fine_table(lot, prime):
     return fine_numbers(lot, prime)
 
 
+def worked_multiples(lot):
+    """The ascending list of the multiples of the lot; None if they are too much work.
+
+    A multiple takes as much work as there are sets of letters.
+    """
+    return common_multiples(lot.members, lot.letters, MAX_WORK >> lot.letters)
+
+
+def has_table(lot):
+    """Whether the table of the lot is not refused."""
+    return worked_multiples(lot) is not None
+
+
 def fine_numbers(lot, prime):
     """The dict of `fine_table`."""
-    # A multiple takes as much work as there are sets of letters.
-    products = common_multiples(lot.members, lot.letters, MAX_WORK >> lot.letters)
+    products = worked_multiples(lot)
     if products is None:
         raise TooMany(MAX_WORK)
     if lot.is_all:

@@ -39,31 +39,31 @@ def pure_shares(degrees, fraction):
     return [(place, lowest_pair(fraction[0], fraction[1] * far)) for place, far in zip(places_of(degrees), fars)]
 
 
-def chain_table(pairs):
-    """The table of a chain, with integers of any length."""
+def sum_of_pures(pairs):
+    """The dict from places, ascending, to the fractions of the sum of pure tables, each multiplied by its fraction."""
     sums = {}
     for degrees, fraction in pairs:
         for place, share in pure_shares(degrees, fraction):
             sums[place] = pair_sum(sums.get(place, (0, 1)), share)
-    return table_of_fractions(sums)
+    return {place: sums[place] for place in sorted(sums)}
 
 
 def table_of_chain(pairs):
     """The sum of the pure tables of a chain, each multiplied by its fraction."""
     check_chain(pairs, MAX_CHAIN)
-    return chain_table(pairs)
+    return table_of_fractions(sum_of_pures(pairs))
 
 
 def is_chain(table, value):
     """Whether the value is the chain whose table the table is."""
     check_table(table)
-    return is_any_chain(value) and chain_table(value) == table
+    return is_any_chain(value) and sum_of_pures(value) == fractions_of(table)
 
 
 def taking_off(table):
     """The chain of the table, or the pairs that were taken off until it was stuck, and the word that tells why."""
     check_table(table)
-    pairs, word = all_turns(table, True)
+    pairs, word = all_turns(fractions_of(table), True)
     if word is None:
         return ("chain", pairs)
     return ("stuck", pairs, word)
@@ -71,15 +71,17 @@ def taking_off(table):
 
 def is_stuck(table):
     """Whether taking off does not end with the table 0."""
-    return all_turns(table, False)[1] is not None
+    return all_turns(fractions_of(table), False)[1] is not None
 
 
-def all_turns(table, limited):
+def all_turns(fractions, limited):
     """The pairs that are taken off, and the word for which the table is stuck; None if nothing is left.
+
+    The table is told by the dict from its places, ascending, to its fractions other than 0.
 
     Limited turns end with an error as soon as a fraction gets too long: it would be returned in any case.
     """
-    rest = fractions_of(table)
+    rest = {place: fractions[place] for place in fractions}
     for step, degree in rest:
         if rest[step, degree][0] < 0:
             return (), ("sign", step, degree)

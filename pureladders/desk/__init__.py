@@ -1,0 +1,1 @@
+"""A desk that keeps lots by names, and sayings about them."""

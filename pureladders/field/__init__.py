@@ -1,0 +1,1 @@
+"""How tables and holes hang on the field."""

@@ -1,0 +1,1 @@
+"""Lots side by side, cut letters, and cones."""

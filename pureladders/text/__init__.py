@@ -1,0 +1,1 @@
+"""Texts of lots, families, tables and chains."""
