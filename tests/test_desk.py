@@ -346,7 +346,10 @@ class DeskTest(CheckedTest):
         self.raises(UnknownName("x"), desk.do, ("take", "x"), ("meet", "c", "a", "b"))
         self.assertTrue(desk == before and desk.past == 1)
         full = Lot(4, tuple((a, b, 6 - a - b, 0) for a in range(7) for b in range(7 - a))[:24])
-        desk.do(("put", "f", full))
+        self.assertEqual(len(full), 24)
+        desk.do(("put", "f", full), ("add", "f", full.members[5][:3] + (1,)), ("join", "f", "f", "f"), ("quotient", "f", (0, 0, 0, 8)))
+        desk.do(("put", "n", Lot(4, full.members[:23])), ("add", "n", full.members[23]))
+        self.assertEqual([desk["f"], desk["n"]], [full, full])
         self.raises(Refused(("great", 0)), desk.do, ("add", "f", (0, 0, 0, 1)))
         self.raises(Refused(("great", 0)), desk.do, ("join", "g", "f", "b"))
         desk.do(("add", "f", (0, 0, 1, 0)))
@@ -435,7 +438,7 @@ class DeskTest(CheckedTest):
                  ("in", "a"), ("in", "a", (0,) * 4, 0), ("left", "a"), ("within", "a"), ("within", "a", "a", "a"), ("straight", "a"),
                  ("straight", "a", 0, 0), ("dimension", "a"), ("dimension", "a", 2, 2), ("table", "a", 0), ("table", "a", table),
                  ("table", "a", 0, table, 0), ("Stable", "a"), ("", "a"), (None, "a"), (True, "a"), ("true", "a"), ("put", "a", EDGES),
-                 (("stable",), "a"), (EDGES, "a"), (["in"], "a", (0,) * 4)]
+                 (("stable",), "a"), (EDGES, "a"), (["in"], "a", (0,) * 4), ("size", "a", 2), (None, "a", 2), ("depth", "a", 0)]
         wrong += [("stable", name) for name in NO_NAMES] + [("within", name, "a") for name in NO_NAMES]
         wrong += [("within", "a", name) for name in NO_NAMES] + [("dimension", "a", value) for value in NO_INTEGERS]
         wrong += [("straight", "a", value) for value in NO_FIELDS] + [("table", "a", value, table) for value in NO_FIELDS]

@@ -308,13 +308,12 @@ class ConeTest(CheckedTest):
         products = tuple(value for value in NO_PRODUCTS if value not in ((1,) * 9,)) + ((1, 1, 1), (1,) * 5, (9, 0, 0, 0), (0, 0, 0, 60))
         squares = Lot(8, ABOVE[32])
         # 24 least members, and one more with the product.
-        full = Lot(3, tuple((a, b, 6 - a - b) for a in range(7) for b in range(7 - a))[:24])
+        full = Lot(4, tuple((a, b, 6 - a - b, 0) for a in range(7) for b in range(7 - a))[:24])
         self.assertEqual(len(full), 24)
         for call in (cone, cone_neighbours):
             self.refuses(call, (EDGES, (1, 0, 1, 0), 2), (
                 (0, each(InvalidLot, NO_LOTS)), (1, each(InvalidProduct, products)), (2, each_number(NO_FIELDS))), (
-                ((squares, (0,) * 8, 0), TooMany(8000)),))
-            self.raises(TooMany(24), call, full, (6, 0, 0))
+                ((squares, (0,) * 8, 0), TooMany(8000)), ((full, (6, 0, 0, 0), 2), TooMany(24))))
             self.raises(TooMany(8000), call, squares, (1,) + (0,) * 7)
 
     def test_refused_tables(self):

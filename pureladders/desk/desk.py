@@ -140,8 +140,8 @@ def is_name(value):
 
 
 def is_named(value):
-    """Whether the value is a tuple of a word, of a name, and perhaps of more."""
-    return isinstance(value, tuple) and len(value) >= 2 and isinstance(value[0], str) and is_name(value[1])
+    """Whether the value is a tuple of anything, of a name, and perhaps of more."""
+    return isinstance(value, tuple) and len(value) >= 2 and is_name(value[1])
 
 
 def is_saying(value, letters):
